@@ -6,6 +6,7 @@ import (
 	"testing"
 
 	"riddle/api"
+	"riddle/sample"
 	"riddle/show"
 	"riddle/syntax"
 )
@@ -166,36 +167,12 @@ func TestRead(t *testing.T) {
 	}
 }
 
-// clone gives a term of other memory, with spare room in each list.
-func clone(t api.Term) api.Term {
-	kids := make([]api.Term, 0, len(t.Kids)+2)
-	for _, kid := range t.Kids {
-		kids = append(kids, clone(kid))
-	}
-	t.Kids = append(kids, op(-5), op(-6))[:len(kids)]
-	return t
-}
-
-// identical tells whether two terms are one, the spare room of their lists too.
-func identical(a, b api.Term) bool {
-	x, y := a.Kids[:cap(a.Kids)], b.Kids[:cap(b.Kids)]
-	if !same(a, b) || len(x) != len(y) {
-		return false
-	}
-	for i := range x {
-		if !identical(x[i], y[i]) {
-			return false
-		}
-	}
-	return true
-}
-
 // P6.2: what is handed in isn't changed; answers are new memory, their spare room too.
 func TestMemory(t *testing.T) {
 	r := rand.New(rand.NewSource(8))
 	for range 2000 {
-		x := clone(grow(r, 4))
-		y := clone(x)
+		x := sample.Roomy(grow(r, 4))
+		y := sample.Roomy(x)
 		one, e := show.Show(x)
 		two, f := show.Show(x)
 		want := string(two)
@@ -206,7 +183,7 @@ func TestMemory(t *testing.T) {
 		for i := range room {
 			room[i] = '#'
 		}
-		if again, _ := show.Show(x); string(two) != want || string(again) != want || !identical(x, y) {
+		if again, _ := show.Show(x); string(two) != want || string(again) != want || !sample.Identical(x, y) {
 			t.Fatalf("%v: %q, %q, not %q", x, two, again, want)
 		}
 	}

@@ -3,52 +3,25 @@ package show_test
 import (
 	"fmt"
 	"math"
-	"slices"
 	"strings"
 	"testing"
 
 	"riddle/api"
+	"riddle/sample"
 	"riddle/show"
 	"riddle/syntax"
 )
 
-// of gives the set of some bytes, by the document's words.
-func of(list string) api.Class {
-	var c api.Class
-	for i := range len(list) {
-		c[list[i]/64] |= 1 << (list[i] % 64)
-	}
-	return c
-}
-
-func set(list string) api.Term { return api.Term{Op: api.OpSet, Set: of(list)} }
-
-func cat(kids ...api.Term) api.Term { return api.Term{Op: api.OpCat, Kids: kids} }
-
-func alt(kids ...api.Term) api.Term { return api.Term{Op: api.OpAlt, Kids: kids} }
-
-func rep(kid api.Term, least, most int) api.Term {
-	return api.Term{Op: api.OpRep, Min: least, Max: most, Kids: []api.Term{kid}}
-}
-
-func op(kind int) api.Term { return api.Term{Op: kind} }
+// Short names for the terms of samples.
+var (
+	of, set, op   = sample.Class, sample.Set, sample.Op
+	cat, alt, rep = sample.Cat, sample.Alt, sample.Rep
+	same, many    = sample.Same, sample.Many
+)
 
 // nest puts a term into an OpRep 0 to 1, so many times.
 func nest(t api.Term, n int) api.Term {
-	for range n {
-		t = rep(t, 0, 1)
-	}
-	return t
-}
-
-// many gives a term so many times.
-func many(t api.Term, n int) []api.Term {
-	return slices.Repeat([]api.Term{t}, n)
-}
-
-// same tells whether two terms are one; a list without elements is a nil list.
-func same(a, b api.Term) bool {
-	return a.Op == b.Op && a.Set == b.Set && a.Min == b.Min && a.Max == b.Max && slices.EqualFunc(a.Kids, b.Kids, same)
+	return sample.Nest(t, n, func(t api.Term) api.Term { return rep(t, 0, 1) })
 }
 
 // shows tells what is wrong with the form of a right term, with Check, and with how it is read again.

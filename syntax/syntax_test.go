@@ -3,22 +3,20 @@ package syntax_test
 import (
 	"bytes"
 	"reflect"
-	"slices"
 	"strings"
 	"testing"
 
 	"riddle/api"
+	"riddle/sample"
 	"riddle/syntax"
 )
 
-// of gives the set of some bytes, by the document's words.
-func of(list string) api.Class {
-	var c api.Class
-	for i := range len(list) {
-		c[list[i]/64] |= 1 << (list[i] % 64)
-	}
-	return c
-}
+// Short names for the terms of samples.
+var (
+	of, set, op   = sample.Class, sample.Set, sample.Op
+	cat, alt, rep = sample.Cat, sample.Alt, sample.Rep
+	same          = sample.Same
+)
 
 // but gives the set of all bytes but some.
 func but(list string) api.Class {
@@ -27,23 +25,6 @@ func but(list string) api.Class {
 		c[i] = ^c[i]
 	}
 	return c
-}
-
-func set(list string) api.Term { return api.Term{Op: api.OpSet, Set: of(list)} }
-
-func cat(kids ...api.Term) api.Term { return api.Term{Op: api.OpCat, Kids: kids} }
-
-func alt(kids ...api.Term) api.Term { return api.Term{Op: api.OpAlt, Kids: kids} }
-
-func rep(kid api.Term, least, most int) api.Term {
-	return api.Term{Op: api.OpRep, Min: least, Max: most, Kids: []api.Term{kid}}
-}
-
-func op(kind int) api.Term { return api.Term{Op: kind} }
-
-// same tells whether two terms are one; a list without elements is a nil list.
-func same(a, b api.Term) bool {
-	return a.Op == b.Op && a.Set == b.Set && a.Min == b.Min && a.Max == b.Max && slices.EqualFunc(a.Kids, b.Kids, same)
 }
 
 // reads tells what is wrong with what Parse reads.

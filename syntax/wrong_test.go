@@ -7,6 +7,7 @@ import (
 	"testing"
 
 	"riddle/api"
+	"riddle/sample"
 	"riddle/syntax"
 )
 
@@ -51,17 +52,9 @@ func TestOrder(t *testing.T) {
 	refuses(t, deep+"a{201}(", api.ErrSyntax, 69)
 	refuses(t, "a{201}"+deep, api.ErrDeep, 36)
 	refuses(t, deep+"{201}", api.ErrDeep, 30)
-	reads(t, strings.Repeat("a", 199)+"*", cat(append(repeat(set("a"), 198), rep(set("a"), 0, -1))...))
+	reads(t, strings.Repeat("a", 199)+"*", cat(append(sample.Many(set("a"), 198), rep(set("a"), 0, -1))...))
 	refuses(t, strings.Repeat("a", 199)+")", api.ErrSyntax, 199)
 	refuses(t, strings.Repeat("(", 200), api.ErrSyntax, 200)
-}
-
-func repeat(x api.Term, n int) []api.Term {
-	var out []api.Term
-	for range n {
-		out = append(out, x)
-	}
-	return out
 }
 
 // The states of the model, which goes through a pattern byte by byte: what has come just now.
