@@ -279,68 +279,6 @@ func TestGreat(t *testing.T) {
 	}
 }
 
-// ends has, for each place of a text at which a term may begin, the places at which it may end then, as bits.
-type ends [8]uint
-
-// match tells by a term's meaning alone (layer 10) where it may end in a text of less than 8 bytes.
-func match(t api.Term, w string) ends {
-	var out ends
-	for i := range len(w) + 1 {
-		switch {
-		case t.Op == api.OpEmpty, t.Op == api.OpBegin && i == 0, t.Op == api.OpEnd && i == len(w):
-			out[i] = 1 << i
-		case t.Op == api.OpSet && i < len(w) && has(t.Set, int(w[i])), t.Op == api.OpDot && i < len(w) && w[i] != 10:
-			out[i] = 1 << (i + 1)
-		}
-	}
-	switch t.Op {
-	case api.OpCat:
-		out = match(op(api.OpEmpty), w)
-		for _, kid := range t.Kids {
-			out = follow(out, match(kid, w))
-		}
-	case api.OpAlt:
-		for _, kid := range t.Kids {
-			out = either(out, match(kid, w))
-		}
-	case api.OpRep:
-		now, kid := match(op(api.OpEmpty), w), match(t.Kids[0], w)
-		// Any number of times is no more than once for each byte, beyond the least.
-		most := t.Max
-		if most == -1 {
-			most = t.Min + len(w)
-		}
-		for k := 0; k <= most; k++ {
-			if k >= t.Min {
-				out = either(out, now)
-			}
-			now = follow(now, kid)
-		}
-	}
-	return out
-}
-
-// follow gives where a term may end behind another one.
-func follow(a, b ends) ends {
-	var out ends
-	for i := range a {
-		for j := range b {
-			if a[i]>>j&1 == 1 {
-				out[i] |= b[j]
-			}
-		}
-	}
-	return out
-}
-
-// either gives where one of two terms may end.
-func either(a, b ends) ends {
-	for i := range a {
-		a[i] |= b[i]
-	}
-	return a
-}
-
 // P8.3: what is simple matches the same.
 func TestMatches(t *testing.T) {
 	r := rand.New(rand.NewSource(6))
@@ -353,11 +291,11 @@ func TestMatches(t *testing.T) {
 			for range r.Intn(7) {
 				w = append(w, "abAB\n1\xff"[r.Intn(7)])
 			}
-			one, two := match(x, string(w)), match(y, string(w))
+			one, two := sample.Match(x, string(w)), sample.Match(y, string(w))
 			if one != two {
 				t.Fatalf("%v in %q: %v, but %v of %v", x, w, one, two, y)
 			}
-			if one != (ends{}) {
+			if one != (sample.Ends{}) {
 				some++
 			}
 		}
