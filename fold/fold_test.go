@@ -138,17 +138,6 @@ func TestWrong(t *testing.T) {
 	}
 }
 
-// slots gives the places of all kids of a term, and of the spare room of its lists.
-func slots(t api.Term) []*api.Term {
-	var out []*api.Term
-	room := t.Kids[:cap(t.Kids)]
-	for i := range room {
-		out = append(out, &room[i])
-		out = append(out, slots(room[i])...)
-	}
-	return out
-}
-
 // memory tells what is wrong with the memory of what a call gives.
 func memory(t *testing.T, r *rand.Rand, call func(api.Term) api.Term) {
 	t.Helper()
@@ -158,16 +147,10 @@ func memory(t *testing.T, r *rand.Rand, call func(api.Term) api.Term) {
 	if !sample.Identical(x, before) || !sample.Same(one, two) {
 		t.Fatalf("%v, before %v: %v, then %v", x, before, one, two)
 	}
-	met := map[*api.Term]int{}
-	for i, y := range []api.Term{x, one, two} {
-		for _, slot := range slots(y) {
-			if who, ok := met[slot]; ok {
-				t.Fatalf("%v: %d and %d share memory", before, who, i)
-			}
-			met[slot] = i
-		}
+	if !sample.Apart(x, one, two) {
+		t.Fatalf("%v: %v and %v share memory", before, one, two)
 	}
-	for _, slot := range append(slots(one), slots(x)...) {
+	for _, slot := range append(sample.Slots(one), sample.Slots(x)...) {
 		*slot = op(-7)
 	}
 	if again := call(before); !sample.Same(two, again) {

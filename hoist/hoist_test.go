@@ -314,31 +314,6 @@ func TestWrong(t *testing.T) {
 	hoist.Join(four{}, four{})
 }
 
-// slots gives the places of all kids of a term, and of the spare room of its lists.
-func slots(t api.Term) []*api.Term {
-	var out []*api.Term
-	room := t.Kids[:cap(t.Kids)]
-	for i := range room {
-		out = append(out, &room[i])
-		out = append(out, slots(room[i])...)
-	}
-	return out
-}
-
-// apart tells whether no two terms have memory in common.
-func apart(list ...api.Term) bool {
-	met := map[*api.Term]bool{}
-	for _, x := range list {
-		for _, slot := range slots(x) {
-			if met[slot] {
-				return false
-			}
-			met[slot] = true
-		}
-	}
-	return true
-}
-
 // P9.3: what Hoist is handed isn't changed; answers are new memory, their spare room too.
 func TestMemory(t *testing.T) {
 	r := rand.New(rand.NewSource(4))
@@ -350,7 +325,7 @@ func TestMemory(t *testing.T) {
 		if !sample.Identical(x, before) || !same(one, two) {
 			t.Fatalf("%v, before %v: %v, then %v", x, before, one, two)
 		}
-		if !apart(append(append(one[:], two[:]...), x)...) {
+		if !sample.Apart(append(append(one[:], two[:]...), x)...) {
 			t.Fatalf("%v: %v shares memory", x, one)
 		}
 		if want, ok := model(before); code == api.OK && (!ok || !same(two, want)) {
@@ -376,7 +351,7 @@ func TestJoinMemory(t *testing.T) {
 			}
 		}
 		all := append(append(append(one[:], two[:]...), x[:]...), y[:]...)
-		if !apart(all...) {
+		if !sample.Apart(all...) {
 			t.Fatalf("%v, %v: shared memory", x, y)
 		}
 	}

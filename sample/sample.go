@@ -74,6 +74,41 @@ func Identical(a, b api.Term) bool {
 	return Same(a, b) && slices.EqualFunc(a.Kids[:cap(a.Kids)], b.Kids[:cap(b.Kids)], Identical)
 }
 
+// Slots gives the places of all kids of a term, and of the spare room of its lists.
+func Slots(t api.Term) []*api.Term {
+	var out []*api.Term
+	room := t.Kids[:cap(t.Kids)]
+	for i := range room {
+		out = append(out, &room[i])
+		out = append(out, Slots(room[i])...)
+	}
+	return out
+}
+
+// Apart tells whether no lists of some terms have memory in common, their spare room neither.
+func Apart(list ...api.Term) bool {
+	var slots []*api.Term
+	for _, t := range list {
+		slots = append(slots, Slots(t)...)
+	}
+	var before []api.Term
+	for _, slot := range slots {
+		before = append(before, *slot)
+	}
+	// What is written to one is seen in another one, if they are one.
+	for i, slot := range slots {
+		*slot = Op(i)
+	}
+	apart := true
+	for i, slot := range slots {
+		apart = apart && slot.Op == i
+	}
+	for i, slot := range slots {
+		*slot = before[i]
+	}
+	return apart
+}
+
 // Grow gives a right term in which OpNone may stand, too, of at most so many levels; pick chooses a number below another one. Its sets and repeats are few and small, so that kids are often the same.
 func Grow(pick func(n int) int, levels int) api.Term {
 	if levels <= 1 || pick(5) == 0 {

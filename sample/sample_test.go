@@ -67,3 +67,18 @@ func TestRoomy(t *testing.T) {
 		t.Errorf("a change isn't seen, or is seen elsewhere")
 	}
 }
+
+// What the tests of other packages trust in: Apart sees lists that are shared, be it in their spare room alone.
+func TestApart(t *testing.T) {
+	x := sample.Cat(sample.Set("a"), sample.Rep(sample.Set("b"), 2, 3))
+	list := make([]api.Term, 2, 4)
+	one, two := x, x
+	one.Kids, two.Kids = list[:2:3], list[3:4]
+	if !sample.Apart(x, sample.Roomy(x), sample.Roomy(x)) || !sample.Apart(one, two) {
+		t.Errorf("memory is seen as shared")
+	}
+	two.Kids = list[2:4]
+	if sample.Apart(x, x) || sample.Apart(x, x.Kids[1]) || sample.Apart(one, two) || sample.Apart(sample.Cat(x.Kids[1], x.Kids[1])) {
+		t.Errorf("shared memory isn't seen")
+	}
+}
