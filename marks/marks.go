@@ -1,4 +1,4 @@
-// Package marks has sets of a graph's positions, as bits in an array: they are compared as they are, can be keys of a map, and are worked on without new memory.
+// Package marks has sets of a graph's positions, or of the bits of its states, as bits in an array: they are compared as they are, can be keys of a map, and are worked on without new memory.
 package marks
 
 import (
@@ -9,13 +9,14 @@ import (
 
 const (
 	wordBits = 64
-	words    = (api.MaxPositions + wordBits - 1) / wordBits
+	// A state has one bit more than there are positions.
+	words = api.MaxPositions/wordBits + 1
 )
 
-// Set is a set of positions below api.MaxPositions: the position p is bit p mod 64 of the word p div 64. Others must not be asked for.
+// Set is a set of numbers from 0 to api.MaxPositions, positions or bits of states: the number p is bit p mod 64 of the word p div 64. Others must not be asked for.
 type Set [words]uint64
 
-// Of gives the set of some positions.
+// Of gives the set of some numbers.
 func Of(list []int) Set {
 	var s Set
 	for _, p := range list {
@@ -24,29 +25,29 @@ func Of(list []int) Set {
 	return s
 }
 
-// Add puts a position in.
+// Add puts a number in.
 func (s *Set) Add(p int) {
 	s[p/wordBits] |= 1 << (p % wordBits)
 }
 
-// Drop takes a position out.
+// Drop takes a number out.
 func (s *Set) Drop(p int) {
 	s[p/wordBits] &^= 1 << (p % wordBits)
 }
 
-// Join puts all positions of another set in.
+// Join puts all numbers of another set in.
 func (s *Set) Join(t Set) {
-	for i, word := range t {
-		s[i] |= word
+	for i := range s {
+		s[i] |= t[i]
 	}
 }
 
-// Has tells whether a position is in a set.
+// Has tells whether a number is in a set.
 func (s Set) Has(p int) bool {
 	return s[p/wordBits]>>(p%wordBits)&1 == 1
 }
 
-// None tells whether a set has no positions.
+// None tells whether a set has no numbers.
 func (s Set) None() bool {
 	return s == Set{}
 }
@@ -59,7 +60,7 @@ func (s Set) And(t Set) Set {
 	return s
 }
 
-// Up gives a set with all positions moved up, none of them beyond the last one that there may be.
+// Up gives a set with all numbers moved up, none of them beyond the last one that there may be.
 func (s Set) Up(n int) Set {
 	var out Set
 	for p := range s.Each {
@@ -68,7 +69,7 @@ func (s Set) Up(n int) Set {
 	return out
 }
 
-// Each goes through the positions of a set, rising.
+// Each goes through the numbers of a set, rising.
 func (s Set) Each(yield func(p int) bool) {
 	for i, word := range s {
 		for ; word != 0; word &= word - 1 {
@@ -79,7 +80,7 @@ func (s Set) Each(yield func(p int) bool) {
 	}
 }
 
-// List gives the positions of a set, rising.
+// List gives the numbers of a set, rising.
 func (s Set) List() []int {
 	var out []int
 	for p := range s.Each {

@@ -9,8 +9,11 @@ import (
 	"riddle/marks"
 )
 
-// numbers gives the numbers below a bound for which something holds.
-func numbers(bound int, holds func(p int) bool) []int {
+// bound is above all numbers of a set: positions, and the bits of states, of which there is one more.
+const bound = api.MaxPositions + 1
+
+// numbers gives the numbers below the bound for which something holds.
+func numbers(holds func(p int) bool) []int {
 	var out []int
 	for p := range bound {
 		if holds(p) {
@@ -25,20 +28,20 @@ func TestSets(t *testing.T) {
 	r := rand.New(rand.NewSource(1))
 	for i := range 2000 {
 		seldom := 1 + i%50
-		a := numbers(api.MaxPositions, func(int) bool { return r.Intn(seldom) == 0 })
-		b := numbers(api.MaxPositions, func(int) bool { return r.Intn(seldom) == 0 })
+		a := numbers(func(int) bool { return r.Intn(seldom) == 0 })
+		b := numbers(func(int) bool { return r.Intn(seldom) == 0 })
 		s, joined := marks.Of(a), marks.Of(a)
 		joined.Join(marks.Of(b))
 		if !slices.Equal(s.List(), a) || s.None() != (len(a) == 0) || (s == marks.Of(b)) != slices.Equal(a, b) {
 			t.Fatalf("%v: %v", a, s)
 		}
-		if got, want := joined.List(), numbers(api.MaxPositions, func(p int) bool { return slices.Contains(a, p) || slices.Contains(b, p) }); !slices.Equal(got, want) {
+		if got, want := joined.List(), numbers(func(p int) bool { return slices.Contains(a, p) || slices.Contains(b, p) }); !slices.Equal(got, want) {
 			t.Fatalf("%v or %v: %v", a, b, got)
 		}
-		if got, want := s.And(marks.Of(b)).List(), numbers(api.MaxPositions, func(p int) bool { return slices.Contains(a, p) && slices.Contains(b, p) }); !slices.Equal(got, want) {
+		if got, want := s.And(marks.Of(b)).List(), numbers(func(p int) bool { return slices.Contains(a, p) && slices.Contains(b, p) }); !slices.Equal(got, want) {
 			t.Fatalf("%v and %v: %v", a, b, got)
 		}
-		if p := r.Intn(api.MaxPositions); s.Has(p) != slices.Contains(a, p) {
+		if p := r.Intn(bound); s.Has(p) != slices.Contains(a, p) {
 			t.Fatalf("%v: %d", a, p)
 		}
 		for _, p := range a {
@@ -50,10 +53,10 @@ func TestSets(t *testing.T) {
 	}
 }
 
-// All moves of single positions that leave them below the bound.
+// All moves of single numbers that leave them below the bound.
 func TestUp(t *testing.T) {
-	for p := range api.MaxPositions {
-		for n := range api.MaxPositions - p {
+	for p := range bound {
+		for n := range bound - p {
 			if got := marks.Of([]int{p}).Up(n); got != marks.Of([]int{p + n}) {
 				t.Fatalf("%d by %d: %v", p, n, got)
 			}
@@ -64,7 +67,7 @@ func TestUp(t *testing.T) {
 // Going through a set ends where it is told to.
 func TestEach(t *testing.T) {
 	var got []int
-	for p := range marks.Of([]int{399, 0, 63, 64, 128}).Each {
+	for p := range marks.Of([]int{400, 0, 63, 64, 128}).Each {
 		if got = append(got, p); p == 64 {
 			break
 		}
