@@ -2,7 +2,6 @@ package nfa_test
 
 import (
 	"fmt"
-	"math"
 	"math/rand"
 	"slices"
 	"strings"
@@ -13,7 +12,6 @@ import (
 	"riddle/nfa"
 	"riddle/posn"
 	"riddle/sample"
-	"riddle/syntax"
 	"riddle/width"
 )
 
@@ -25,17 +23,6 @@ func machine(t *testing.T, g api.Graph) *nfa.Machine {
 		t.Fatalf("%.300s: %v", sample.Told(g), code)
 	}
 	return m
-}
-
-// graph gives the graph of a pattern.
-func graph(t *testing.T, text string) api.Graph {
-	t.Helper()
-	x, code, at := syntax.Parse([]byte(text))
-	g, refused := posn.Build(x)
-	if code != api.OK || refused != api.OK {
-		t.Fatalf("%q: %v, %d, %v", text, code, at, refused)
-	}
-	return g
 }
 
 // state gives the vector of some bits, told without layer 1.
@@ -93,7 +80,7 @@ func scanned(g api.Graph, w []byte, always bool) []int {
 }
 
 func TestExamples(t *testing.T) {
-	m := machine(t, graph(t, "ab"))
+	m := machine(t, sample.GraphOf("ab"))
 	two := m.Step(state(0), 'a')
 	four := m.Step(two, 'b')
 	if m.Width() != 3 || !slices.Equal(two, []uint64{2}) || !slices.Equal(four, []uint64{4}) {
@@ -116,20 +103,7 @@ func TestWidth(t *testing.T) {
 
 // P13.1: graphs that aren't right have no machine.
 func TestWrong(t *testing.T) {
-	right := func() api.Graph {
-		return api.Graph{Sets: make([]api.Class, 3), First: []int{0, 2}, Last: []int{1, 2}, Follow: [][]int{{0, 1, 2}, nil, {1}}, Empty: true}
-	}
-	machine(t, right())
-	var wrong []api.Graph
-	for _, list := range [][]int{{-1}, {3}, {0, 0}, {1, 0}, {0, 1, 1}, {0, 1, 2, 3}, {math.MinInt}, {math.MaxInt}, {0, math.MinInt}} {
-		one, two, three, four := right(), right(), right(), right()
-		one.First, two.Last, three.Follow[0], four.Follow[2] = list, list, list, list
-		wrong = append(wrong, one, two, three, four)
-	}
-	short, long := right(), right()
-	short.Follow, long.Follow = short.Follow[:2], append(long.Follow, nil)
-	wrong = append(wrong, short, long, api.Graph{Last: []int{0}}, api.Graph{Sets: make([]api.Class, 1)}, api.Graph{Follow: [][]int{nil}}, api.Graph{Sets: make([]api.Class, 401), Follow: make([][]int, 401)}, api.Graph{Sets: make([]api.Class, 400), Follow: make([][]int, 400), First: []int{400}})
-	for _, g := range wrong {
+	for _, g := range sample.WrongGraphs() {
 		if m, code := nfa.New(g); m != nil || code != api.ErrArg {
 			t.Errorf("%.300s: %v, %v", fmt.Sprint(g), m, code)
 		}
@@ -173,7 +147,7 @@ func TestSteps(t *testing.T) {
 		{"(a{200}){2}", state(399), 'a', state(400), true},
 		{"(a{200}){2}", state(400), 'a', nil, false},
 	} {
-		m := machine(t, graph(t, c.text))
+		m := machine(t, sample.GraphOf(c.text))
 		if got := m.Step(c.from, c.b); !slices.Equal(got, c.want) || m.Done(got) != c.done {
 			t.Errorf("%d: %q, %v by %q: %v, %v", i, c.text, c.from, c.b, got, m.Done(got))
 		}
@@ -185,7 +159,7 @@ func TestDone(t *testing.T) {
 	for text, want := range map[string][]int{
 		"": {0}, "a": {1}, "a?": {0, 1}, "ab": {2}, "ab?": {1, 2}, "a|b|": {0, 1, 2}, "[b-a]": {1}, "a{2,4}": {2, 3, 4}, "(a*b)*": {0, 2}, "a{60,70}": {60, 61, 62, 63, 64, 65, 66, 67, 68, 69, 70}, "(a{200}){1,2}": {200, 400},
 	} {
-		m := machine(t, graph(t, text))
+		m := machine(t, sample.GraphOf(text))
 		var got []int
 		for i := range 1000 {
 			if m.Done(state(i)) {
@@ -262,7 +236,7 @@ func TestBytes(t *testing.T) {
 // P13.2: bits from Width on count for nothing, however many words there are.
 func TestBeyond(t *testing.T) {
 	for _, text := range []string{"", "a*", "ab", "a{62}", "a{63}", "a{64}", "(a{200}){2}"} {
-		m := machine(t, graph(t, text))
+		m := machine(t, sample.GraphOf(text))
 		n := m.Width()
 		for _, v := range [][]uint64{state(n), state(n + 1), state(64 * (n/64 + 1)), state(1 << 20), state(n, 447, 448, 511, 512)} {
 			if got := m.Step(v, 'a'); len(got) != 0 || m.Done(v) {
@@ -295,20 +269,11 @@ func TestScans(t *testing.T) {
 		{"(ab)*", "ababb", "[0 1 2 3 4 5]", "[0 2 4]"},
 		{"a{2,3}", "aaaa", "[2 3 4]", "[2 3]"},
 	} {
-		m := machine(t, graph(t, c.text))
+		m := machine(t, sample.GraphOf(c.text))
 		if always, once := fmt.Sprint(m.Scan([]byte(c.w), true)), fmt.Sprint(m.Scan([]byte(c.w), false)); always != c.always || once != c.once {
 			t.Errorf("%q in %q: %s, %s", c.text, c.w, always, once)
 		}
 	}
-}
-
-// letters gives a text of few letters.
-func letters(r *rand.Rand, kinds string, most int) []byte {
-	var out []byte
-	for range r.Intn(most + 1) {
-		out = append(out, kinds[r.Intn(len(kinds))])
-	}
-	return out
 }
 
 // P13.3: grown graphs, of no term too, against layer 11.
@@ -316,7 +281,7 @@ func TestLayer11(t *testing.T) {
 	r := rand.New(rand.NewSource(14))
 	some := 0
 	for i := range 10000 {
-		g, w := sample.Graph(r.Intn, i%9), letters(r, "abab\x00\xffc", 12)
+		g, w := sample.Graph(r.Intn, i%9), sample.Text(r.Intn, "abab\x00\xffc", 12)
 		m := machine(t, g)
 		for _, always := range []bool{true, false} {
 			got := m.Scan(w, always)
@@ -341,7 +306,7 @@ func TestLayer10(t *testing.T) {
 		if code != api.OK || width.Anchored(x) {
 			continue
 		}
-		m, w := machine(t, g), letters(r, "abA\n\xff", 20)
+		m, w := machine(t, g), sample.Text(r.Intn, "abA\n\xff", 20)
 		if always, once := m.Scan(w, true), m.Scan(w, false); !slices.Equal(always, ends.All(x, w)) || !slices.Equal(once, ends.From(x, w, 0)) {
 			t.Fatalf("%v in %q: %v, %v", x, w, always, once)
 		} else {
@@ -357,7 +322,7 @@ func TestLayer10(t *testing.T) {
 func TestStepsAndScan(t *testing.T) {
 	r := rand.New(rand.NewSource(16))
 	for i := range 2000 {
-		m, w := machine(t, sample.Graph(r.Intn, i%80)), letters(r, "ab\x00c", 20)
+		m, w := machine(t, sample.Graph(r.Intn, i%80)), sample.Text(r.Intn, "ab\x00c", 20)
 		for _, always := range []bool{true, false} {
 			var want []int
 			v := state(0)
@@ -397,7 +362,7 @@ func TestKept(t *testing.T) {
 		clear(g.First[:cap(g.First)])
 		clear(g.Last[:cap(g.Last)])
 		other := machine(t, sample.Graph(r.Intn, 1+i%7))
-		v, w := vector(r, 1), letters(r, "ab\x00c", 9)
+		v, w := vector(r, 1), sample.Text(r.Intn, "ab\x00c", 9)
 		other.Step(v, 'a')
 		other.Scan(w, true)
 		if got := m.Step(v, 'a'); !slices.Equal(got, stepped(before, v, 'a')) || m.Width() != len(before.Sets)+1 || m.Done(v) != done(before, v) || !slices.Equal(m.Scan(w, true), scanned(before, w, true)) {
@@ -419,7 +384,7 @@ func TestMemory(t *testing.T) {
 	r := rand.New(rand.NewSource(18))
 	for i := range 3000 {
 		m := machine(t, sample.Graph(r.Intn, i%140))
-		v, w := vector(r, 4)[:r.Intn(4)], letters(r, "ab", 30)
+		v, w := vector(r, 4)[:r.Intn(4)], sample.Text(r.Intn, "ab", 30)
 		spare, text := slices.Clone(v[:4]), slices.Clone(w[:cap(w)])
 		m.Done(v)
 		step, again, ends, more := m.Step(v, 'a'), m.Step(v, 'a'), m.Scan(w, true), m.Scan(w, true)
@@ -460,10 +425,10 @@ func TestGreat(t *testing.T) {
 	if got := machine(t, dense).Scan(w, true); len(got) != long+1 {
 		t.Errorf("%d", len(got))
 	}
-	if got := machine(t, graph(t, "(a{200}){2}")).Scan(w, true); len(got) != long-399 || got[0] != 400 {
+	if got := machine(t, sample.GraphOf("(a{200}){2}")).Scan(w, true); len(got) != long-399 || got[0] != 400 {
 		t.Errorf("%d", len(got))
 	}
-	if got := machine(t, graph(t, "(a{200}){2}")).Scan(w, false); !slices.Equal(got, []int{400}) {
+	if got := machine(t, sample.GraphOf("(a{200}){2}")).Scan(w, false); !slices.Equal(got, []int{400}) {
 		t.Errorf("%v", got)
 	}
 }

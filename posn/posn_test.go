@@ -334,16 +334,7 @@ func TestCheck(t *testing.T) {
 			t.Errorf("%v: %v", g, code)
 		}
 	}
-	var wrong []api.Graph
-	for _, list := range [][]int{{-1}, {3}, {0, 0}, {1, 0}, {0, 1, 1}, {0, 1, 2, 3}, {0, 2, 1}, {-1, 0}, {math.MinInt}, {math.MaxInt}, {0, math.MinInt}, {0, 1, math.MaxInt}, {2, 2, 2}} {
-		one, two, three, four := right(), right(), right(), right()
-		one.First, two.Last, three.Follow[0], four.Follow[2] = list, list, list, list
-		wrong = append(wrong, one, two, three, four)
-	}
-	short, long, more := right(), right(), right()
-	short.Follow, long.Follow, more.Sets = short.Follow[:2], append(long.Follow, nil), make([]api.Class, 4)
-	wrong = append(wrong, short, long, more, api.Graph{First: []int{0}}, api.Graph{Sets: make([]api.Class, 401), Follow: make([][]int, 401)}, api.Graph{Sets: make([]api.Class, 1)}, api.Graph{Follow: [][]int{{0}}}, api.Graph{Sets: make([]api.Class, 400), Follow: make([][]int, 400), Last: []int{400}})
-	for _, g := range wrong {
+	for _, g := range sample.WrongGraphs() {
 		g.Empty = true
 		if code := posn.Check(g); code != api.ErrArg {
 			t.Errorf("%v: %v", g, code)

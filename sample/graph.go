@@ -1,12 +1,25 @@
 package sample
 
 import (
+	"math"
 	"slices"
 	"strconv"
 	"strings"
 
 	"riddle/api"
+	"riddle/posn"
+	"riddle/syntax"
 )
+
+// GraphOf gives the graph of a pattern, by layers 5 and 11. It panics where there is none.
+func GraphOf(pattern string) api.Graph {
+	t, code, _ := syntax.Parse([]byte(pattern))
+	g, refused := posn.Build(t)
+	if code != api.OK || refused != api.OK {
+		panic(pattern)
+	}
+	return g
+}
 
 // Graph gives a right graph of so many positions; pick chooses a number below another one. Its sets are few, and some positions go on as others do.
 func Graph(pick func(n int) int, positions int) api.Graph {
@@ -20,6 +33,24 @@ func Graph(pick func(n int) int, positions int) api.Graph {
 		}
 	}
 	return g
+}
+
+// WrongGraphs gives graphs that aren't right, for all reasons.
+func WrongGraphs() []api.Graph {
+	right := func() api.Graph {
+		return api.Graph{Sets: make([]api.Class, 3), First: []int{0, 2}, Last: []int{1, 2}, Follow: [][]int{{0, 1, 2}, nil, {1}}, Empty: true}
+	}
+	var out []api.Graph
+	for _, list := range [][]int{{-1}, {3}, {0, 0}, {1, 0}, {0, 1, 1}, {0, 1, 2, 3}, {0, 2, 1}, {-1, 0}, {math.MinInt}, {math.MaxInt}, {0, math.MinInt}, {0, 1, math.MaxInt}, {2, 2, 2}} {
+		one, two, three, four := right(), right(), right(), right()
+		one.First, two.Last, three.Follow[0], four.Follow[2] = list, list, list, list
+		out = append(out, one, two, three, four)
+	}
+	short, long, more := right(), right(), right()
+	short.Follow, long.Follow, more.Sets = short.Follow[:2], append(long.Follow, nil), make([]api.Class, 4)
+	out = append(out, short, long, more, api.Graph{First: []int{0}}, api.Graph{Last: []int{0}}, api.Graph{Sets: make([]api.Class, 1)}, api.Graph{Follow: [][]int{nil}}, api.Graph{Follow: [][]int{{0}}})
+	most, least := api.MaxPositions, api.MaxPositions+1
+	return append(out, api.Graph{Sets: make([]api.Class, least), Follow: make([][]int, least)}, api.Graph{Sets: make([]api.Class, most), Follow: make([][]int, most), First: []int{most}}, api.Graph{Sets: make([]api.Class, most), Follow: make([][]int, most), Last: []int{most}})
 }
 
 // some gives few or many of the numbers below a bound, rising.

@@ -9,21 +9,37 @@ import (
 	"riddle/sample"
 )
 
+// isRightGraph tells by the document's words whether a graph is right.
+func isRightGraph(g api.Graph) bool {
+	right := len(g.Sets) == len(g.Follow) && len(g.Sets) <= 400
+	for _, list := range append([][]int{g.First, g.Last}, g.Follow...) {
+		for k, p := range list {
+			right = right && 0 <= p && p < len(g.Sets) && (k == 0 || list[k-1] < p)
+		}
+	}
+	return right
+}
+
+// What the tests of other packages trust in: all wrong graphs are wrong, and that of a pattern is its own.
+func TestGraphs(t *testing.T) {
+	for _, g := range sample.WrongGraphs() {
+		if isRightGraph(g) {
+			t.Errorf("%v", g)
+		}
+	}
+	if g := sample.GraphOf("(a|b)*c"); !isRightGraph(g) || sample.Told(g) != "abc 0,1,2 2 0,1,2 0,1,2 -" {
+		t.Errorf("%v", g)
+	}
+}
+
 // What the tests of other packages trust in: Graph gives right graphs, in which some positions go on alike, though not all.
 func TestGraph(t *testing.T) {
 	r := rand.New(rand.NewSource(1))
 	alike, apart := 0, 0
 	for i := range 2000 {
 		g := sample.Graph(r.Intn, i%8)
-		if len(g.Sets) != i%8 || len(g.Follow) != i%8 {
+		if len(g.Sets) != i%8 || !isRightGraph(g) {
 			t.Fatalf("%v", g)
-		}
-		for _, list := range append([][]int{g.First, g.Last}, g.Follow...) {
-			for k, p := range list {
-				if p < 0 || p >= i%8 || k > 0 && list[k-1] >= p {
-					t.Fatalf("%v", g)
-				}
-			}
 		}
 		for p := 1; p < i%8; p++ {
 			if g.Sets[0] == g.Sets[p] && slices.Equal(g.Follow[0], g.Follow[p]) {

@@ -1,4 +1,4 @@
-// Package sample makes terms, for the tests of the layers that work on them.
+// Package sample makes terms, graphs, tables and texts, for the tests of the layers that work on them.
 package sample
 
 import (
@@ -152,4 +152,13 @@ func leaf(pick func(n int) int) api.Term {
 func bounds(pick func(n int) int) (least, most int) {
 	least = pick(3)
 	return least, []int{-1, least, least + 1, least + 2}[pick(4)]
+}
+
+// Text gives a text of at most so many bytes, of these; pick chooses a number below another one.
+func Text(pick func(n int) int, bytes string, most int) []byte {
+	var out []byte
+	for range pick(most + 1) {
+		out = append(out, bytes[pick(len(bytes))])
+	}
+	return out
 }

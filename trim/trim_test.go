@@ -9,20 +9,8 @@ import (
 	"riddle/api"
 	"riddle/posn"
 	"riddle/sample"
-	"riddle/syntax"
 	"riddle/trim"
 )
-
-// graph gives the graph of a pattern.
-func graph(t *testing.T, text string) api.Graph {
-	t.Helper()
-	x, code, at := syntax.Parse([]byte(text))
-	g, refused := posn.Build(x)
-	if code != api.OK || refused != api.OK {
-		t.Fatalf("%q: %v, %d, %v", text, code, at, refused)
-	}
-	return g
-}
 
 // smaller gives what Trim or Merge makes of a graph that it takes.
 func smaller(t *testing.T, call func(api.Graph) (api.Graph, api.Errno), g api.Graph) api.Graph {
@@ -35,10 +23,10 @@ func smaller(t *testing.T, call func(api.Graph) (api.Graph, api.Errno), g api.Gr
 }
 
 func TestExamples(t *testing.T) {
-	if got := sample.Told(smaller(t, trim.Trim, graph(t, "ab|c[b-a]"))); got != "ab 0 1 1 -" {
+	if got := sample.Told(smaller(t, trim.Trim, sample.GraphOf("ab|c[b-a]"))); got != "ab 0 1 1 -" {
 		t.Error(got)
 	}
-	if got := sample.Told(smaller(t, trim.Merge, graph(t, "ac|bc"))); got != "acb 0,2 1 1 - 1" {
+	if got := sample.Told(smaller(t, trim.Merge, sample.GraphOf("ac|bc"))); got != "acb 0,2 1 1 - 1" {
 		t.Error(got)
 	}
 }
@@ -63,7 +51,7 @@ func TestTrimByHand(t *testing.T) {
 		"a(b[b-a]){2}":  " - -",
 		"a(b[b-a])?":    "a 0 0 -",
 	} {
-		if got := sample.Told(smaller(t, trim.Trim, graph(t, text))); got != want {
+		if got := sample.Told(smaller(t, trim.Trim, sample.GraphOf(text))); got != want {
 			t.Errorf("%q: %s, not %s", text, got, want)
 		}
 	}
@@ -121,7 +109,7 @@ func TestMergeByHand(t *testing.T) {
 		"ax|by|cx|ay|bx":  "axbycab 0,2,4,5,6 1,3 1 - 3 - 1 3 1",
 		"(a|b)(a|b)(a|b)": "ababab 0,1 4,5 2,3 2,3 4,5 4,5 - -",
 	} {
-		if got := sample.Told(smaller(t, trim.Merge, graph(t, text))); got != want {
+		if got := sample.Told(smaller(t, trim.Merge, sample.GraphOf(text))); got != want {
 			t.Errorf("%q: %s, not %s", text, got, want)
 		}
 	}
@@ -310,11 +298,7 @@ func TestTerms(t *testing.T) {
 
 // P12.1: graphs that aren't right.
 func TestWrong(t *testing.T) {
-	for _, g := range []api.Graph{
-		{First: []int{0}}, {Last: []int{-1}}, {Sets: make([]api.Class, 1)}, {Follow: [][]int{nil}}, {Sets: make([]api.Class, 401), Follow: make([][]int, 401)},
-		sketch("ab", []int{1, 0}, nil, nil, nil), sketch("ab", nil, []int{2}, nil, nil), sketch("ab", nil, []int{0, 0}, nil, nil), sketch("ab", nil, nil, nil, []int{-1}), sketch("ab", nil, nil, nil), sketch("ab", nil, nil, nil, []int{1 << 60}),
-	} {
-		g.Empty = true
+	for _, g := range sample.WrongGraphs() {
 		for _, call := range []func(api.Graph) (api.Graph, api.Errno){trim.Trim, trim.Merge} {
 			if out, code := call(g); code != api.ErrArg || !sample.SameGraph(out, api.Graph{}) {
 				t.Errorf("%v: %v, %v", g, out, code)
@@ -360,7 +344,7 @@ func TestMost(t *testing.T) {
 			t.Errorf("%d: %d, %d positions", i, len(one.Sets), len(two.Sets))
 		}
 	}
-	if got := fmt.Sprint(len(smaller(t, trim.Merge, graph(t, "(a{0,200}){2}")).Sets)); got != "400" {
+	if got := fmt.Sprint(len(smaller(t, trim.Merge, sample.GraphOf("(a{0,200}){2}")).Sets)); got != "400" {
 		t.Error(got)
 	}
 }
