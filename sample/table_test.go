@@ -9,6 +9,36 @@ import (
 	"riddle/sample"
 )
 
+// isRightTable tells by the document's words whether a table is right.
+func isRightTable(x api.Table) bool {
+	states := len(x.Done)
+	right := 1 <= states && states <= 300 && 1 <= x.Classes && x.Classes <= 256 && len(x.Next) == x.Classes*states
+	for _, class := range x.Map {
+		right = right && int(class) < x.Classes
+	}
+	for _, to := range x.Next {
+		right = right && int(to) < states
+	}
+	return right
+}
+
+// What the tests of other packages trust in: all wrong tables are wrong, and one is told by its states, and run as they lead.
+func TestTables(t *testing.T) {
+	for name, x := range sample.WrongTables() {
+		if isRightTable(x) {
+			t.Errorf("%s: %v", name, x)
+		}
+	}
+	x := sample.TableOf("1,0,2! 1,2,1 0,0,0!")
+	if got := sample.ToldTable(x); !isRightTable(x) || x.Classes != 3 || got[len(got)-len("1,0,2! 1,2,1 0,0,0!"):] != "1,0,2! 1,2,1 0,0,0!" || x.Map[0] != 0 || x.Map[4] != 1 || x.Map[255] != 0 {
+		t.Errorf("%s", got)
+	}
+	// To 2, back to 0, to 1, once more to 1, to 2.
+	if got := sample.Run(x, []byte{2, 1, 3, 5, 7}); !slices.Equal(got, []int{0, 1, 2, 5}) {
+		t.Errorf("%v", got)
+	}
+}
+
 // What the tests of other packages trust in: Table gives right tables of the states and classes that are asked for, of which some go on alike, and some can't be come to.
 func TestTable(t *testing.T) {
 	r := rand.New(rand.NewSource(1))
@@ -16,7 +46,7 @@ func TestTable(t *testing.T) {
 	for i := range 2000 {
 		states, classes := 1+i%20, 1+i%7
 		x := sample.Table(r.Intn, states, classes)
-		if x.Classes != classes || len(x.Done) != states || len(x.Next) != states*classes || int(slices.Max(x.Map[:])) >= classes || int(slices.Max(x.Next)) >= states {
+		if x.Classes != classes || len(x.Done) != states || !isRightTable(x) {
 			t.Fatalf("%v", x)
 		}
 		for s := 1; s < states; s++ {

@@ -2,10 +2,8 @@ package small_test
 
 import (
 	"fmt"
-	"math"
 	"math/rand"
 	"slices"
-	"strconv"
 	"strings"
 	"testing"
 
@@ -25,25 +23,6 @@ func minimised(t *testing.T, x api.Table) api.Table {
 		t.Fatalf("%.300s: %v, %.300s", fmt.Sprint(x), code, fmt.Sprint(out))
 	}
 	return out
-}
-
-// drawn gives a table whose states are told as ToldTable tells them; the byte b has the class b mod their number.
-func drawn(states string) api.Table {
-	var x api.Table
-	for _, row := range strings.Fields(states) {
-		leads, done := strings.CutSuffix(row, "!")
-		x.Done = append(x.Done, done)
-		x.Classes = 0
-		for _, to := range strings.Split(leads, ",") {
-			k, _ := strconv.Atoi(to)
-			x.Next = append(x.Next, uint16(k))
-			x.Classes++
-		}
-	}
-	for b := range x.Map {
-		x.Map[b] = byte(b % x.Classes)
-	}
-	return x
 }
 
 // rows tells a table's states, and nothing else of it.
@@ -87,51 +66,9 @@ func TestRight(t *testing.T) {
 	}
 }
 
-// wrong gives tables that aren't right.
-func wrong() map[string]api.Table {
-	out := map[string]api.Table{
-		"nothing":            {},
-		"no states":          {Classes: 1},
-		"no classes":         {Done: make([]bool, 3)},
-		"too many states":    {Classes: 1, Next: make([]uint16, 301), Done: make([]bool, 301)},
-		"too many classes":   {Classes: 257, Next: make([]uint16, 257), Done: make([]bool, 1)},
-		"as many as 0":       {Classes: 1 << 62, Done: make([]bool, 4)},
-		"as many as 256":     {Classes: 1<<62 + 64, Next: make([]uint16, 256), Done: make([]bool, 4)},
-		"less than 0":        {Classes: -1 << 62, Done: make([]bool, 4)},
-		"states and no rows": {Classes: 2, Done: make([]bool, 3)},
-		"rows and no states": {Classes: 2, Next: make([]uint16, 6)},
-	}
-	add := func(name string, change func(x *api.Table)) {
-		x := drawn("1,2 2,0! 1,1")
-		change(&x)
-		out[name] = x
-	}
-	for _, n := range []int{math.MinInt, -2, -1, 0, 1, 3, 6, 256, 257, math.MaxInt} {
-		add("Classes "+strconv.Itoa(n), func(x *api.Table) { x.Classes = n })
-	}
-	for b := range 256 {
-		for _, class := range []byte{2, 255} {
-			add(fmt.Sprint("the class ", class, " of ", b), func(x *api.Table) { x.Map[b] = class })
-		}
-	}
-	for i := range 6 {
-		for _, to := range []uint16{3, 300, 65535} {
-			add(fmt.Sprint(i, " leads to ", to), func(x *api.Table) { x.Next[i] = to })
-		}
-		add(fmt.Sprint("Next cut at ", i), func(x *api.Table) { x.Next = x.Next[:i] })
-	}
-	for n := range 3 {
-		add(fmt.Sprint("Done cut at ", n), func(x *api.Table) { x.Done = x.Done[:n] })
-	}
-	add("Next longer", func(x *api.Table) { x.Next = append(x.Next, 0) })
-	add("Next longer by a row", func(x *api.Table) { x.Next = append(x.Next, 0, 0) })
-	add("Done longer", func(x *api.Table) { x.Done = append(x.Done, false) })
-	return out
-}
-
 // P15.1, P15.2: what isn't right is refused.
 func TestWrong(t *testing.T) {
-	for name, x := range wrong() {
+	for name, x := range sample.WrongTables() {
 		if code := small.Check(x); code != api.ErrArg {
 			t.Errorf("%s: Check: %v", name, code)
 		}
@@ -175,7 +112,7 @@ func TestByHand(t *testing.T) {
 		{"5,1 1,1! 2,2 3,2 4,3 5,5!", "1,1 1,1!"},            // some are never come to
 		{"1,2 3,3 4,4 5,5 5,5 6,6! 5,5", "1,1 2,2 3,3 2,2!"}, // they go on alike, far behind
 	} {
-		x := drawn(c.states)
+		x := sample.TableOf(c.states)
 		got := minimised(t, x)
 		if rows(got) != c.want || got.Map != x.Map || got.Classes != x.Classes {
 			t.Errorf("%s: %d, %s, not %s", c.states, got.Classes, rows(got), c.want)
@@ -185,7 +122,7 @@ func TestByHand(t *testing.T) {
 
 // P15.2: Map and Classes stay, and a class counts that no byte has.
 func TestClassesStay(t *testing.T) {
-	x := drawn("1,2 0,0! 0,1!")
+	x := sample.TableOf("1,2 0,0! 0,1!")
 	x.Map = [256]byte{}
 	if got := minimised(t, x); got.Map != x.Map || rows(got) != "1,2 0,0! 0,1!" {
 		t.Error(sample.ToldTable(got))
@@ -195,7 +132,7 @@ func TestClassesStay(t *testing.T) {
 		t.Error(got)
 	}
 	// Two classes that lead alike stay two.
-	if got := minimised(t, drawn("1,1,1 0,0,0")); got.Classes != 3 || rows(got) != "0,0,0" {
+	if got := minimised(t, sample.TableOf("1,1,1 0,0,0")); got.Classes != 3 || rows(got) != "0,0,0" {
 		t.Error(sample.ToldTable(got))
 	}
 }
@@ -328,7 +265,7 @@ func TestChains(t *testing.T) {
 
 // each goes through all tables of so many states and classes.
 func each(states, classes int, yield func(x api.Table)) {
-	x := drawn(strings.Repeat(strings.Repeat(",0", classes)[1:]+" ", states))
+	x := sample.TableOf(strings.Repeat(strings.Repeat(",0", classes)[1:]+" ", states))
 	var fill func(i int)
 	fill = func(i int) {
 		switch {

@@ -373,21 +373,6 @@ func TestAllClasses(t *testing.T) {
 	}
 }
 
-// run gives the numbers of bytes behind which a table is Done.
-func run(x api.Table, w []byte) []int {
-	var out []int
-	s := 0
-	for i := range len(w) + 1 {
-		if x.Done[s] {
-			out = append(out, i)
-		}
-		if i < len(w) {
-			s = int(x.Next[s*x.Classes+int(x.Map[w[i]])])
-		}
-	}
-	return out
-}
-
 // P14.2: machines of grown terms find what layer 10 tells.
 func TestLayer10(t *testing.T) {
 	r := rand.New(rand.NewSource(3))
@@ -405,7 +390,7 @@ func TestLayer10(t *testing.T) {
 		}
 		for range 4 {
 			w := sample.Text(r.Intn, "abAB\n1\xff", 20)
-			if all, from := run(always, w), run(once, w); !slices.Equal(all, ends.All(x, w)) || !slices.Equal(from, ends.From(x, w, 0)) {
+			if all, from := sample.Run(always, w), sample.Run(once, w); !slices.Equal(all, ends.All(x, w)) || !slices.Equal(from, ends.From(x, w, 0)) {
 				t.Fatalf("%v in %q: %v, %v", x, w, all, from)
 			} else {
 				some += len(all)
