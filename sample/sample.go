@@ -1,4 +1,4 @@
-// Package sample makes terms, graphs, tables and texts, for the tests of the layers that work on them.
+// Package sample makes terms, graphs, tables, literals and texts, for the tests of the layers that work on them.
 package sample
 
 import (
