@@ -58,15 +58,6 @@ func matches(t *testing.T, g api.Graph, text string, want func(i int) []int) {
 	}
 }
 
-// free gives a grown term without anchors.
-func free(r *rand.Rand, levels int) api.Term {
-	for {
-		if x := sample.Grow(r.Intn, levels); !width.Anchored(x) {
-			return x
-		}
-	}
-}
-
 // letters gives a text of few letters.
 func letters(r *rand.Rand, most int) string {
 	var b strings.Builder
@@ -250,7 +241,7 @@ func TestGrown(t *testing.T) {
 	r := rand.New(rand.NewSource(11))
 	some := 0
 	for i := range 20000 {
-		x := free(r, 2+i%5)
+		x := sample.Free(r.Intn, 2+i%5)
 		g := build(t, x)
 		if want := model(x); !sample.SameGraph(g, want) || posn.Check(g) != api.OK {
 			t.Fatalf("%v: %s, not %s", x, sample.Told(g), sample.Told(want))
@@ -277,7 +268,7 @@ func TestGrown(t *testing.T) {
 func TestLayer10(t *testing.T) {
 	r := rand.New(rand.NewSource(12))
 	for i := range 600 {
-		x := free(r, 3+i%4)
+		x := sample.Free(r.Intn, 3+i%4)
 		if g, code := posn.Build(x); code == api.OK {
 			text := letters(r, 120)
 			matches(t, g, text, func(i int) []int { return layer10.From(x, []byte(text), i) })
@@ -349,14 +340,7 @@ func TestCheck(t *testing.T) {
 func TestWrong(t *testing.T) {
 	a := set("a")
 	most := rep(cat(a, a), 200, 200)
-	var wrong []api.Term
-	for _, m := range []int{math.MinInt, -1000, -2, -1, 0, 1, 2, 201, 1000, math.MaxInt} {
-		wrong = append(wrong, op(m), api.Term{Op: m, Min: m, Max: m, Set: api.Class{1}, Kids: []api.Term{a, {}, a}}, rep(a, m, m), rep(rep(a, 1, m), m, 1), rep(a, 0, m), rep(a, 5, m), rep(a, m, 5), rep(a, m, -1), rep(op(api.OpEmpty), m, m))
-	}
-	for kind := range api.OpNone + 2 {
-		wrong = append(wrong, op(kind), api.Term{Op: kind, Set: api.Class{0, 1}, Kids: []api.Term{a}}, api.Term{Op: kind, Min: 1, Max: 1, Kids: []api.Term{op(kind), a}}, api.Term{Op: kind, Max: -1, Kids: []api.Term{a, op(api.OpRep), op(kind)}})
-	}
-	for _, x := range wrong {
+	for _, x := range sample.WrongTerms() {
 		for _, y := range []api.Term{x, cat(x, a), cat(most, x), cat(x, most, most, most), rep(x, 200, 200), rep(x, 0, -1), rep(cat(x, x), 3, 5), alt(x, x, most)} {
 			posn.Build(y)
 		}
@@ -367,7 +351,7 @@ func TestWrong(t *testing.T) {
 func TestMemory(t *testing.T) {
 	r := rand.New(rand.NewSource(14))
 	for i := range 3000 {
-		x := sample.Roomy(free(r, 2+i%4))
+		x := sample.Roomy(sample.Free(r.Intn, 2+i%4))
 		before := sample.Roomy(x)
 		one, code := posn.Build(x)
 		two, _ := posn.Build(x)

@@ -8,14 +8,12 @@ import (
 
 	"riddle/api"
 	"riddle/posn"
-	"riddle/syntax"
 )
 
 // GraphOf gives the graph of a pattern, by layers 5 and 11. It panics where there is none.
 func GraphOf(pattern string) api.Graph {
-	t, code, _ := syntax.Parse([]byte(pattern))
-	g, refused := posn.Build(t)
-	if code != api.OK || refused != api.OK {
+	g, code := posn.Build(TermOf(pattern))
+	if code != api.OK {
 		panic(pattern)
 	}
 	return g
